@@ -1,0 +1,178 @@
+"""The form of the package: what can be checked of the language rules, and the names of the interface."""
+
+import ast
+import builtins
+import inspect
+import os
+import unittest
+
+from cutwalks import errors, rows, walks
+
+FOLDER = os.path.dirname(os.path.abspath(errors.__file__))
+
+BUILTINS = """
+    len range enumerate zip min max sum abs sorted reversed int str bool bytes list tuple dict set frozenset
+    isinstance ord repr any all divmod pow getattr hasattr setattr iter next map type super property
+    staticmethod classmethod Exception ValueError TypeError KeyError IndexError LookupError ZeroDivisionError
+    ArithmeticError OverflowError RuntimeError NotImplementedError AttributeError StopIteration NotImplemented
+""".split()
+
+LIBRARY = {
+    "heapq": ["heappush", "heappop", "heapify", "heapreplace", "heappushpop"],
+    "math": ["gcd", "lcm", "isqrt", "comb", "perm", "factorial"],
+    "itertools": ["product", "combinations", "permutations", "chain", "accumulate", "pairwise", "islice", "zip_longest"],
+    "collections": ["defaultdict", "deque"],
+}
+
+DOUBLE_UNDERSCORES = """
+    init eq repr str len enter exit call iter lt le gt ge ne add sub mul floordiv mod pow and or xor lshift rshift
+    radd rsub rmul rfloordiv rmod rand ror rxor rlshift rrshift iadd isub imul ifloordiv imod ipow iand ior ixor
+    ilshift irshift neg pos invert abs bool contains getitem setitem
+""".split()
+
+ERRORS = """
+    CutError InvalidRow InvalidSettings InvalidPlace InvalidRanges InvalidChange InvalidCuts InvalidLoop
+    InvalidPieces InvalidKind InvalidName InvalidSpans InvalidNumber TooLarge NothingToUndo Clash InvalidText
+""".split()
+
+# name, names of the arguments
+FUNCTIONS = {
+    walks: {
+        "next_cut": ["row", "settings", "place"],
+        "walk": ["row", "settings", "start"],
+        "first_from": ["row", "settings", "start", "place"],
+        "cuts_within": ["row", "settings", "start", "low", "high"],
+        "settings_for": ["row", "cuts"],
+    },
+}
+METHODS = {
+    "__init__": ["self", "length", "marks", "strict"],
+    "with_marks": ["self", "places", "is_strict"],
+    "without_marks": ["self", "places"],
+    "joined": ["self", "other", "kind"],
+    "part": ["self", "begin", "end"],
+    "changed": ["self", "change"],
+}
+
+
+def package_files():
+    """The paths of all files of the package, below its folder."""
+    paths = []
+    for folder, folders, names in os.walk(FOLDER):
+        folders[:] = [name for name in folders if name != "__pycache__"]
+        paths += [os.path.relpath(os.path.join(folder, name), FOLDER) for name in names]
+    return sorted(paths)
+
+
+def read(name):
+    with open(os.path.join(FOLDER, name), encoding="utf-8") as file:
+        return file.read()
+
+
+def nodes(kind):
+    """(file, node) for all nodes of a kind in the package."""
+    for name in package_files():
+        for node in ast.walk(ast.parse(read(name))):
+            if isinstance(node, kind):
+                yield name, node
+
+
+class FormTest(unittest.TestCase):
+    def test_the_folder_holds_only_modules(self):
+        for name in package_files():
+            self.assertTrue(name.endswith(".py"), name)
+            for part in name[:-3].split(os.sep):
+                self.assertTrue(part.replace("_", "a").isalnum() and part == part.lower(), name)
+
+    def test_files_lines_and_signs(self):
+        for name in package_files():
+            lines = read(name).split("\n")
+            self.assertLessEqual(len(lines), 400, name)
+            for line in lines:
+                self.assertLessEqual(len(line), 120, (name, line))
+                self.assertTrue(all(" " <= sign <= "~" for sign in line), (name, line))
+
+    def test_functions_have_at_most_forty_lines(self):
+        for name, node in nodes(ast.FunctionDef):
+            self.assertLessEqual(node.end_lineno - node.lineno + 1, 40, (name, node.name))
+
+    def test_imports_name_the_file_that_defines(self):
+        self.assertEqual([name for name, _ in nodes(ast.Import) if name != "__main__.py"], [])
+        for name, node in nodes(ast.ImportFrom):
+            self.assertEqual(node.level, 0, name)
+            if node.module == "__future__":
+                continue
+            for alias in node.names:
+                self.assertIsNone(alias.asname, name)
+                if node.module in LIBRARY:
+                    self.assertIn(alias.name, LIBRARY[node.module], name)
+                    continue
+                package, _, module = node.module.partition(".")
+                self.assertEqual(package, "cutwalks", name)
+                tree = ast.parse(read(module.replace(".", "/") + ".py"))
+                self.assertIn(alias.name, [told for part in tree.body for told in names_bound(part)], name)
+
+    def test_builtins(self):
+        for name, node in nodes(ast.Name):
+            if hasattr(builtins, node.id):
+                self.assertIn(node.id, BUILTINS, (name, node.lineno))
+
+    def test_strings_have_no_percent_sign(self):
+        for name, node in nodes(ast.Constant):
+            if isinstance(node.value, str):
+                self.assertNotIn("%", node.value, (name, node.lineno))
+            self.assertNotIsInstance(node.value, (float, complex), (name, node.lineno))
+
+    def test_what_is_not_in_the_language(self):
+        for name, node in nodes((ast.AsyncFunctionDef, ast.Await, ast.Div)):
+            self.fail((name, node))
+
+    def test_identity_is_asked_of_none_true_and_false(self):
+        for name, node in nodes(ast.Compare):
+            for sign, right in zip(node.ops, node.comparators):
+                if isinstance(sign, (ast.Is, ast.IsNot)):
+                    self.assertIsInstance(right, ast.Constant, (name, node.lineno))
+
+    def test_double_underscores_and_decorators(self):
+        for name, node in nodes(ast.FunctionDef):
+            if node.name.startswith("__"):
+                self.assertIn(node.name.strip("_"), DOUBLE_UNDERSCORES, name)
+            for decorator in node.decorator_list:
+                told = ast.unparse(decorator)
+                self.assertTrue(
+                    told in ("property", "staticmethod", "classmethod") or told.endswith(".setter"), (name, told))
+
+
+def names_bound(node):
+    """The names that a statement at module level binds by itself."""
+    if isinstance(node, (ast.FunctionDef, ast.ClassDef)):
+        return [node.name]
+    if isinstance(node, ast.Assign):
+        return [target.id for target in node.targets]
+    if isinstance(node, ast.AnnAssign):
+        return [node.target.id]
+    return []
+
+
+class InterfaceTest(unittest.TestCase):
+    def test_functions_are_defined_in_their_files(self):
+        for module, functions in FUNCTIONS.items():
+            for name, arguments in functions.items():
+                function = getattr(module, name)
+                self.assertEqual(function.__module__, module.__name__)
+                self.assertEqual(list(inspect.signature(function).parameters), arguments)
+
+    def test_methods_are_defined_in_the_class(self):
+        self.assertEqual(rows.Row.__module__, "cutwalks.rows")
+        for name, arguments in METHODS.items():
+            self.assertEqual(list(inspect.signature(vars(rows.Row)[name]).parameters), arguments)
+        for name in ["__len__", "__contains__", "__eq__"]:
+            self.assertIn(name, vars(rows.Row))
+
+    def test_errors_are_defined_in_their_file(self):
+        for name in ERRORS:
+            self.assertEqual(getattr(errors, name).__module__, "cutwalks.errors")
+
+
+if __name__ == "__main__":
+    unittest.main()

@@ -1,6 +1,6 @@
 """Tests of arguments that may be any object, and the errors they lead to."""
 
-from cutwalks.errors import InvalidPlace, InvalidSettings, TooLarge
+from cutwalks.errors import InvalidPlace, InvalidRanges, InvalidSettings, TooLarge
 
 MOST_MARKS = 400
 MOST_PIECES = 200
@@ -56,6 +56,25 @@ def is_replacement(begin, end, length, row_length):
     if not 0 <= begin <= end <= row_length or length < 0:
         return False
     return row_length - (end - begin) + length >= 1
+
+
+def is_range(thing, low, high):
+    """Whether any object is a range of places from low to high."""
+    if not isinstance(thing, tuple) or len(thing) != 2:
+        return False
+    begin, end = thing
+    return is_integer(begin) and is_integer(end) and low <= begin <= end <= high
+
+
+def check_ranges(ranges, row_length):
+    """InvalidRanges unless any object is one range or more of places of a row of this length."""
+    if not isinstance(ranges, list) or len(ranges) == 0:
+        raise InvalidRanges("ranges are a list of one range or more")
+    low = 0
+    for thing in ranges:
+        if not is_range(thing, low, row_length):
+            raise InvalidRanges("a range is two places that go up, at least 2 above the range before")
+        low = thing[1] + 2
 
 
 def check_settings(settings):

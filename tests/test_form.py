@@ -6,7 +6,7 @@ import inspect
 import os
 import unittest
 
-from cutwalks import errors, rows, walks
+from cutwalks import errors, meetings, ranges, rows, starts, walks
 
 FOLDER = os.path.dirname(os.path.abspath(errors.__file__))
 
@@ -43,6 +43,25 @@ FUNCTIONS = {
         "first_from": ["row", "settings", "start", "place"],
         "cuts_within": ["row", "settings", "start", "low", "high"],
         "settings_for": ["row", "cuts"],
+    },
+    ranges: {
+        "image": ["row", "settings", "ranges"],
+        "first_cuts": ["row", "settings", "ranges", "place"],
+    },
+    meetings: {
+        "entries": ["row", "settings", "place"],
+        "meeting": ["row", "settings", "first", "second"],
+        "sure_cut": ["row", "settings", "place"],
+        "last_apart": ["row", "settings", "place"],
+        "apart": ["row", "settings", "place", "far"],
+        "meeting_paper": ["row", "settings", "place"],
+        "shows_meeting": ["row", "settings", "place", "thing"],
+    },
+    starts: {
+        "basin": ["row", "settings", "cut"],
+        "share": ["row", "settings", "cut"],
+        "sure_for": ["row", "settings", "ranges"],
+        "partners": ["row", "settings", "start"],
     },
 }
 METHODS = {

@@ -1,9 +1,10 @@
 """Tests of arguments that may be any object, and the errors they lead to."""
 
-from cutwalks.errors import InvalidPlace, InvalidRanges, InvalidSettings, TooLarge
+from cutwalks.errors import InvalidNumber, InvalidPlace, InvalidRanges, InvalidSettings, TooLarge
 
 MOST_MARKS = 400
 MOST_PIECES = 200
+MOST_PERIOD = 2000
 
 
 def is_integer(thing):
@@ -32,7 +33,7 @@ def are_marks(thing, high):
 
 def are_some_of(thing, marks):
     """Whether any object is an ascending list of some of the marks."""
-    if not are_ascending(thing, 1, max(marks, default=0)):
+    if not are_ascending(thing, 0, max(marks, default=0)):
         return False
     return len(set(thing) - set(marks)) == 0
 
@@ -88,13 +89,43 @@ def check_settings(settings):
         raise InvalidSettings("settings go up from 1")
 
 
+def check_loop_settings(settings):
+    """InvalidSettings unless any object is settings of loops."""
+    check_settings(settings)
+    if settings[2] > MOST_PERIOD:
+        raise InvalidSettings("the greatest length is too great for loops")
+
+
+def check_number(number, low):
+    """InvalidNumber unless the number is an integer from low on."""
+    if not is_integer(number) or number < low:
+        raise InvalidNumber(f"not a number from {low} on")
+
+
 def check_place(place, low, high):
     """InvalidPlace unless the place is one from low to high."""
     if not is_integer(place) or not low <= place <= high:
         raise InvalidPlace(f"not a place from {low} to {high}")
 
 
+def check_place_from(place, low):
+    """InvalidPlace unless the place is an integer from low on."""
+    if not is_integer(place) or place < low:
+        raise InvalidPlace(f"not a place from {low} on")
+
+
+def check_any_place(place):
+    """InvalidPlace unless the place is an integer."""
+    if not is_integer(place):
+        raise InvalidPlace("a place is an integer")
+
+
 def check_size(row, settings):
     """TooLarge if walks through the row could have more pieces than walks may have."""
-    if row.length > MOST_PIECES * settings[0]:
+    check_length(row.length, settings)
+
+
+def check_length(length, settings):
+    """TooLarge if walks through rows of this length could have more pieces than walks may have."""
+    if length > MOST_PIECES * settings[0]:
         raise TooLarge("the row is too long for these settings")

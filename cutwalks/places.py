@@ -18,6 +18,11 @@ def count_places(ranges):
     return sum([high - low + 1 for low, high in ranges])
 
 
+def count_within(ranges, low, high):
+    """How many places of the ranges lie from low to high."""
+    return sum([max(min(end, high) - max(begin, low) + 1, 0) for begin, end in ranges])
+
+
 def least_outside(ranges, others):
     """The least place of the ranges that is not one of the others, None if there is none."""
     for low, high in ranges:
@@ -47,3 +52,18 @@ def first_above(ranges, place, otherwise):
 def is_within(ranges, place):
     """Whether the place is one of the ranges."""
     return any([low <= place <= high for low, high in ranges])
+
+
+def common_places(ranges, others):
+    """The ranges of the places that two ranges both stand for."""
+    found = []
+    for low, high in ranges:
+        for begin, end in others:
+            if max(low, begin) <= min(high, end):
+                found.append((max(low, begin), min(high, end)))
+    return found
+
+
+def moved_ranges(ranges, number):
+    """The ranges of the places, each greater by number."""
+    return [(low + number, high + number) for low, high in ranges]

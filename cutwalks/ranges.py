@@ -39,10 +39,23 @@ def next_ranges(row, settings, ranges):
 
 def ranges_from(row, settings, ranges, place):
     """The first cuts of valid arguments."""
+    _, found = followed(row, settings, ranges, place)
+    return joined_ranges(found)
+
+
+def all_cuts(row, settings, ranges):
+    """The ranges of all cuts of the walks from all places of ranges."""
+    before, found = followed(row, settings, ranges, row.length)
+    return joined_ranges(before + found)
+
+
+def followed(row, settings, ranges, place):
+    """Pairs of the cuts before place of the walks from all places of ranges, and of the first ones from place on."""
     # The pairs waiting are followed in the order of their places, and none twice: so walks that have met are
     # followed as one, and how far apart the starts lie does not matter.
     waiting = list(ranges)
     passed = 0
+    before = []
     found = []
     while len(waiting) > 0:
         low, high = heappop(waiting)
@@ -52,8 +65,9 @@ def ranges_from(row, settings, ranges, place):
         low = max(low, passed)
         if low <= high:
             last, pair = stretch(row, settings, low, high)
+            before.append((low, last))
             passed = last + 1
             heappush(waiting, pair)
             if last < high:
                 heappush(waiting, (passed, high))
-    return joined_ranges(found)
+    return before, found

@@ -88,11 +88,8 @@ class Row:
         """The row that the change makes of this one."""
         if not is_change(change, self._length):
             raise InvalidChange("not a change of this row")
-        begin, end, length, marks, strict = change
-        new_length = self._length - (end - begin) + length
-        new_marks = replaced(self._marks, marks, change, new_length)
-        new_strict = replaced(self._strict, strict, change, new_length)
-        return Row(new_length, new_marks, new_strict)
+        length, marks, strict = changed_parts(self, change)
+        return Row(length, marks, strict)
 
     def _check_inner(self, places):
         """InvalidPlace unless any object is a list of places where marks may stand."""
@@ -103,6 +100,15 @@ class Row:
 def shifted(places, number):
     """The places, each greater by number."""
     return [place + number for place in places]
+
+
+def changed_parts(row, change):
+    """Length, marks and strict marks of the row that a valid change makes."""
+    begin, end, length, marks, strict = change
+    new_length = row.length - (end - begin) + length
+    new_marks = replaced(row.marks, marks, change, new_length)
+    new_strict = replaced(row.strict, strict, change, new_length)
+    return new_length, new_marks, new_strict
 
 
 def replaced(old, new, change, new_length):

@@ -6,7 +6,7 @@ import inspect
 import os
 import unittest
 
-from cutwalks import errors, meetings, ranges, rows, starts, walks
+from cutwalks import changes, errors, helpers, loops, meetings, ranges, rows, starts, walks
 
 FOLDER = os.path.dirname(os.path.abspath(errors.__file__))
 
@@ -63,15 +63,47 @@ FUNCTIONS = {
         "sure_for": ["row", "settings", "ranges"],
         "partners": ["row", "settings", "start"],
     },
+    helpers: {
+        "fewest_marks": ["settings", "is_strict"],
+        "helping_marks": ["settings", "place", "is_strict"],
+        "taken": ["row", "settings", "place"],
+        "needed": ["row", "settings", "place"],
+    },
+    changes: {
+        "rejoin": ["row", "settings", "change"],
+        "effect": ["row", "settings", "change"],
+        "entries_behind": ["row", "settings", "begin", "end", "length"],
+        "latest_rejoin": ["row", "settings", "begin", "end", "length"],
+        "earliest_rejoin": ["row", "settings", "begin", "end", "length"],
+        "worst_change": ["row", "settings", "begin", "end", "length"],
+        "best_change": ["row", "settings", "begin", "end", "length"],
+    },
+    loops: {
+        "loop_step": ["loop", "settings", "place"],
+        "ring_of": ["loop", "settings", "place"],
+        "rings": ["loop", "settings"],
+        "turning": ["loop", "settings"],
+        "mean": ["loop", "settings"],
+        "never_meet": ["loop", "settings"],
+        "loop_meeting": ["loop", "settings", "first", "second"],
+    },
 }
-METHODS = {
-    "__init__": ["self", "length", "marks", "strict"],
-    "with_marks": ["self", "places", "is_strict"],
-    "without_marks": ["self", "places"],
-    "joined": ["self", "other", "kind"],
-    "part": ["self", "begin", "end"],
-    "changed": ["self", "change"],
-}
+# class, names of the arguments of its methods, its properties, and its methods with double underscores
+CLASSES = [
+    (rows.Row, {
+        "__init__": ["self", "length", "marks", "strict"],
+        "with_marks": ["self", "places", "is_strict"],
+        "without_marks": ["self", "places"],
+        "joined": ["self", "other", "kind"],
+        "part": ["self", "begin", "end"],
+        "changed": ["self", "change"],
+    }, ["length", "marks", "strict"], ["__len__", "__contains__", "__eq__"]),
+    (loops.Loop, {
+        "__init__": ["self", "period", "marks", "strict"],
+        "moved": ["self", "number"],
+        "repeated": ["self", "times"],
+    }, ["period", "marks", "strict"], ["__eq__"]),
+]
 
 
 def package_files():
@@ -182,11 +214,17 @@ class InterfaceTest(unittest.TestCase):
                 self.assertEqual(list(inspect.signature(function).parameters), arguments)
 
     def test_methods_are_defined_in_the_class(self):
+        for kind, methods, properties, others in CLASSES:
+            for name, arguments in methods.items():
+                self.assertEqual(list(inspect.signature(vars(kind)[name]).parameters), arguments)
+            for name in properties:
+                self.assertIsInstance(vars(kind)[name], property)
+            for name in others:
+                self.assertIn(name, vars(kind))
+
+    def test_classes_are_defined_in_their_files(self):
         self.assertEqual(rows.Row.__module__, "cutwalks.rows")
-        for name, arguments in METHODS.items():
-            self.assertEqual(list(inspect.signature(vars(rows.Row)[name]).parameters), arguments)
-        for name in ["__len__", "__contains__", "__eq__"]:
-            self.assertIn(name, vars(rows.Row))
+        self.assertEqual(loops.Loop.__module__, "cutwalks.loops")
 
     def test_errors_are_defined_in_their_file(self):
         for name in ERRORS:

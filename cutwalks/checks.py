@@ -26,6 +26,13 @@ def are_ascending(thing, low, high):
     return all([before < place for before, place in zip(thing, thing[1:])])
 
 
+def are_cells(thing):
+    """Whether any object is an ascending list of integers from 0 on."""
+    if not isinstance(thing, list) or not all([is_integer(cell) for cell in thing]):
+        return False
+    return are_ascending(thing, 0, max(thing, default=0))
+
+
 def are_marks(thing, high):
     """Whether any object may be the list of the marks where high is the last place for one."""
     return are_ascending(thing, 1, high) and len(thing) <= MOST_MARKS

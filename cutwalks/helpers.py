@@ -3,7 +3,7 @@
 from cutwalks.checks import MOST_MARKS, check_place_from, check_settings
 from cutwalks.errors import TooLarge
 from cutwalks.meetings import check_inner, entries_at
-from cutwalks.places import count_places, count_within, is_within
+from cutwalks.places import count_places, counts_within, is_within
 from cutwalks.ranges import all_cuts
 from cutwalks.stretches import earliest, latest
 
@@ -29,15 +29,14 @@ def taken(row, settings, place):
     """The list of (cut, how many): where the walks from the entries at place come together, and how often there."""
     check_inner(row, settings, place)
     ranges = entries_at(row, settings, place)
-    cuts = all_cuts(row, settings, ranges)
+    cuts = [mark for mark in row.marks if mark > place] + [row.length]
+    before = [(earliest(row, settings, cut), latest(row, settings, cut)) for cut in cuts]
     found = []
-    for cut in [mark for mark in row.marks if mark > place] + [row.length]:
-        many = count_within(cuts, earliest(row, settings, cut), latest(row, settings, cut))
+    for cut, many in zip(cuts, counts_within(all_cuts(row, settings, ranges), before)):
         # The first walk to come to a cut that is no entry takes its place in S; only the others make S smaller.
-        if many > 0 and not is_within(ranges, cut):
-            many -= 1
-        if many > 0:
-            found.append((cut, many))
+        often = many if is_within(ranges, cut) else many - 1
+        if often > 0:
+            found.append((cut, often))
     return found
 
 

@@ -18,9 +18,20 @@ def count_places(ranges):
     return sum([high - low + 1 for low, high in ranges])
 
 
-def count_within(ranges, low, high):
-    """How many places of the ranges lie from low to high."""
-    return sum([max(min(end, high) - max(begin, low) + 1, 0) for begin, end in ranges])
+def counts_within(ranges, pairs):
+    """How many places of the ranges lie from low to high, for each of some pairs (low, high) that come in order."""
+    found = []
+    at = 0
+    for low, high in pairs:
+        while at < len(ranges) and ranges[at][1] < low:
+            at += 1
+        many = 0
+        number = at
+        while number < len(ranges) and ranges[number][0] <= high:
+            many += min(ranges[number][1], high) - max(ranges[number][0], low) + 1
+            number += 1
+        found.append(many)
+    return found
 
 
 def least_outside(ranges, others):

@@ -6,7 +6,8 @@ import inspect
 import os
 import unittest
 
-from cutwalks import changes, errors, helpers, loops, meetings, ranges, rows, starts, walks
+from cutwalks import (
+    changes, errors, helpers, knowledge, loops, meetings, ranges, rows, session, starts, store, texts, walks)
 
 FOLDER = os.path.dirname(os.path.abspath(errors.__file__))
 
@@ -87,6 +88,23 @@ FUNCTIONS = {
         "never_meet": ["loop", "settings"],
         "loop_meeting": ["loop", "settings", "first", "second"],
     },
+    knowledge: {
+        "kinds_at": ["length", "settings", "pieces", "place"],
+        "steps_from": ["length", "settings", "pieces", "place"],
+        "possible_cuts": ["length", "settings", "pieces", "start"],
+        "sure_cuts": ["length", "settings", "pieces", "start"],
+        "row_through": ["length", "settings", "pieces", "start", "place"],
+        "row_around": ["length", "settings", "pieces", "start", "place"],
+    },
+    texts: {
+        "write_row": ["row"],
+        "read_row": ["text"],
+        "write_settings": ["settings"],
+        "read_settings": ["text"],
+        "write_change": ["change"],
+        "read_change": ["text"],
+    },
+    session: {"session": ["rows"]},
 }
 # class, names of the arguments of its methods, its properties, and its methods with double underscores
 CLASSES = [
@@ -103,6 +121,19 @@ CLASSES = [
         "moved": ["self", "number"],
         "repeated": ["self", "times"],
     }, ["period", "marks", "strict"], ["__eq__"]),
+    (store.Store, {
+        "__init__": ["self", "settings", "marking", "strict"],
+        "add": ["self", "name", "spans"],
+        "drop": ["self", "name"],
+        "cuts_of": ["self", "name"],
+        "pieces_of": ["self", "name"],
+        "alone": ["self", "names"],
+        "shared": ["self", "name", "other"],
+        "undo": ["self"],
+        "mark": ["self"],
+        "undo_to": ["self", "index"],
+        "twin": ["self"],
+    }, ["stored"], ["__len__"]),
 ]
 
 
@@ -225,6 +256,7 @@ class InterfaceTest(unittest.TestCase):
     def test_classes_are_defined_in_their_files(self):
         self.assertEqual(rows.Row.__module__, "cutwalks.rows")
         self.assertEqual(loops.Loop.__module__, "cutwalks.loops")
+        self.assertEqual(store.Store.__module__, "cutwalks.store")
 
     def test_errors_are_defined_in_their_file(self):
         for name in ERRORS:

@@ -4,6 +4,7 @@ import ast
 import builtins
 import inspect
 import os
+import re
 import unittest
 
 from cutwalks import (
@@ -29,6 +30,22 @@ DOUBLE_UNDERSCORES = """
     init eq repr str len enter exit call iter lt le gt ge ne add sub mul floordiv mod pow and or xor lshift rshift
     radd rsub rmul rfloordiv rmod rand ror rxor rlshift rrshift iadd isub imul ifloordiv imod ipow iand ior ixor
     ilshift irshift neg pos invert abs bool contains getitem setitem
+""".split()
+
+METHODS_OF_VALUES = """
+    append clear copy count endswith extend find get index insert isalnum isalpha isdigit islower isspace isupper items
+    join keys ljust lower lstrip partition pop remove replace reverse rfind rjust rpartition rsplit rstrip setdefault
+    split splitlines startswith strip update upper values zfill bit_length
+""".split()
+
+BARRED = """
+    register mro elements open input law attrgetter breakpoint builtins compile copyright credits delattr dir eval exec
+    exit gc getattr globals hasattr help id importlib license locals methodcaller os quit setattr super type vars sys
+""".split()
+
+BARRED_WORDS = """
+    type typing typing_extensions enum Enum IntEnum StrEnum Flag IntFlag Generic Protocol ABC ABCMeta namedtuple
+    NamedTuple TypedDict TYPE_CHECKING abstractmethod dataclass overload contextmanager _wall _WallAttr
 """.split()
 
 ERRORS = """
@@ -159,6 +176,10 @@ def nodes(kind):
                 yield name, node
 
 
+INTERFACE = ERRORS + [name for functions in FUNCTIONS.values() for name in functions]
+INTERFACE += [name for _, methods, properties, _ in CLASSES for name in [*methods, *properties]]
+
+
 class FormTest(unittest.TestCase):
     def test_the_folder_holds_only_modules(self):
         for name in package_files():
@@ -223,6 +244,73 @@ class FormTest(unittest.TestCase):
                 told = ast.unparse(decorator)
                 self.assertTrue(
                     told in ("property", "staticmethod", "classmethod") or told.endswith(".setter"), (name, told))
+
+
+    def test_local_names_are_no_imports_classes_or_builtins(self):
+        for name in package_files():
+            tree = ast.parse(read(name))
+            barred = {alias.name for part in ast.walk(tree) if isinstance(part, ast.ImportFrom) for alias in part.names}
+            barred |= {part.name for part in tree.body if isinstance(part, ast.ClassDef)}
+            for part in ast.walk(tree):
+                if isinstance(part, ast.arg):
+                    told = part.arg
+                elif isinstance(part, ast.Name) and isinstance(part.ctx, ast.Store):
+                    told = part.id
+                else:
+                    continue
+                self.assertNotIn(told, barred, (name, part.lineno))
+                self.assertFalse(hasattr(builtins, told), (name, told))
+                self.assertNotIn(told, BARRED, (name, part.lineno))
+
+    def test_methods_that_are_called(self):
+        own = {node.name for _, node in nodes(ast.FunctionDef)}
+        for name, node in nodes(ast.Call):
+            if isinstance(node.func, ast.Attribute):
+                self.assertIn(node.func.attr, METHODS_OF_VALUES + sorted(own), (name, node.lineno))
+                # The store has a method of this name, so sets are not changed by theirs.
+                self.assertNotIn(node.func.attr, ["add", "discard"], (name, node.lineno))
+
+    def test_no_name_is_a_method_and_an_attribute(self):
+        methods = {part.name for _, node in nodes(ast.ClassDef) for part in node.body if isinstance(part, ast.FunctionDef)}
+        for name, node in nodes(ast.Attribute):
+            if isinstance(node.ctx, ast.Store):
+                self.assertNotIn(node.attr, methods, (name, node.lineno))
+                for kind in (str, int, list, dict, set, bytes):
+                    self.assertFalse(hasattr(kind, node.attr), (name, node.attr))
+        for told in methods - {"add"}:
+            if not told.startswith("__"):
+                for kind in (str, int, list, dict, set, bytes):
+                    self.assertFalse(hasattr(kind, told), told)
+
+    def test_no_imports_go_round(self):
+        found = {}
+        for name, node in nodes(ast.ImportFrom):
+            found.setdefault(name[:-3], set()).add((node.module or "").partition(".")[2])
+        for start in found:
+            seen, waiting = set(), sorted(found[start])
+            while waiting:
+                name = waiting.pop()
+                self.assertNotEqual(name, start)
+                if name not in seen:
+                    seen.add(name)
+                    waiting += sorted(found.get(name, ()))
+
+    def test_words_that_do_not_occur(self):
+        for name in package_files():
+            for word in BARRED_WORDS:
+                found = re.findall(r"\b" + word + r"\b(?!\()", read(name))
+                self.assertEqual(found, [], (name, word))
+
+    def test_every_import_and_function_is_used(self):
+        texts_read = {name: read(name) for name in package_files()}
+        for name, node in nodes(ast.ImportFrom):
+            for alias in node.names:
+                self.assertGreater(len(re.findall(r"\b" + alias.name + r"\b", texts_read[name])), 1, (name, alias.name))
+        for name, node in nodes((ast.FunctionDef, ast.ClassDef)):
+            if not node.name.startswith("__"):
+                self.assertIsNotNone(ast.get_docstring(node), (name, node.name))
+                told = sum(len(re.findall(r"\b" + node.name + r"\b", text)) for text in texts_read.values())
+                self.assertTrue(told > 1 or node.name in INTERFACE, (name, node.name))
 
 
 def names_bound(node):

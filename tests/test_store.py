@@ -536,7 +536,7 @@ class ArgumentsTest(unittest.TestCase):
         marking, strict, spans = [2, 6, 7, 12], [2, 7], [(0, 9), (5, 9)]
         store = Store(SETTINGS, marking, strict)
         marking.clear()
-        strict.append(5)
+        strict.clear()
         store.add("a", spans)
         spans.clear()
         expected = Store(SETTINGS, MARKING, STRICT)

@@ -54,6 +54,8 @@ def effect_by_definition(slow, change):
     assert all(piece in new for piece in kept)
     behind = [(low, high) for low, high in old if low >= again]
     assert all((low + move, high + move) in new for low, high in behind)
+    before = [cut for cut in slow.walks[0] if cut < begin]
+    assert before == [cut for cut in new_walk(slow, change) if cut < begin]
     kept += behind
     return len(kept), len(old) - len(kept), len(new) - len(kept)
 
@@ -196,6 +198,29 @@ class OpenChangeTest(unittest.TestCase):
                 slow = Slow(length, marks, strict, settings)
                 for begin, end, new_cells in replacements(length, 4):
                     self.check(slow, begin, end, new_cells)
+
+    def test_several_cuts_in_the_new_cells(self):
+        for length, marks, strict in [(6, [], []), (9, [3, 4, 8], [3]), (14, [5, 11], [5, 11])]:
+            for settings in [(1, 1, 5), (1, 2, 3), (2, 2, 5), (2, 4, 5), (3, 3, 4), (3, 4, 4), (4, 4, 6)]:
+                slow = Slow(length, marks, strict, settings)
+                for begin, end in [(0, 0), (2, 2), (0, length), (3, 5), (6, 6)]:
+                    for new_cells in [7, 8, 9, 10, 11]:
+                        self.check_by_strict_marks(slow, begin, end, new_cells)
+
+    def check_by_strict_marks(self, slow, begin, end, length):
+        """Against all contents with strict marks and none."""
+        given = (slow.row, slow.settings, begin, end, length)
+        told = given[1:] + slow.told
+        firsts, found = set(), set()
+        for marks in ascending_lists(1, length if end < slow.length else length - 1):
+            change = (begin, end, length, marks, marks)
+            cut = min(cut for cut in new_walk(slow, change) if cut >= begin + length) + end - begin - length
+            firsts.add(cut)
+            found.add(slow.meeting(slow.first_from(0, end), cut))
+        self.assertEqual(entries_behind(*given), ranges_of(firsts), told)
+        self.assertEqual((latest_rejoin(*given), earliest_rejoin(*given)), (max(found), min(found)), told)
+        self.assertEqual(rejoin(*given[:2], worst_change(*given)), max(found), told)
+        self.assertEqual(rejoin(*given[:2], best_change(*given)), min(found), told)
 
     def test_mixed_rows(self):
         for random, slow in mixed_rows(42, 250, 30):

@@ -9,7 +9,7 @@ from cutwalks.knowledge import kinds_at, possible_cuts, row_around, row_through,
 from cutwalks.rows import Row
 from cutwalks.walks import next_cut, walk
 from model import (
-    GREAT, NO_INTEGERS, ODD_THINGS, next_by_definition, places_of, ranges_of, small_rows, small_settings,
+    GREAT, NO_INTEGERS, ODD_THINGS, mixed_rows, next_by_definition, places_of, ranges_of, small_rows, small_settings,
     walk_by_definition, wrong_settings)
 from rounds import great_rows
 
@@ -134,6 +134,59 @@ class SmallTest(unittest.TestCase):
                     self.check(rows, random.choices(pieces, k=random.randint(3, 6)))
 
 
+class MixedTest(unittest.TestCase):
+    """Rows too long to try all of them, place by place."""
+
+    def test_possible_and_sure_cuts_by_the_steps_of_each_place(self):
+        for random, slow in mixed_rows(76, 150, 80):
+            places = random.choices(range(slow.length), k=random.randint(0, 25))
+            pieces = [(place, slow.next[place]) for place in places]
+            told = (slow.length, slow.settings, pieces)
+            steps = [set(places_of(steps_from(*told, place))) for place in range(slow.length)]
+            for start in [0, random.randint(0, slow.length)]:
+                found = {start}
+                for place in range(start, slow.length):
+                    if place in found:
+                        found |= steps[place]
+                self.assertEqual(possible_cuts(*told, start), ranges_of(found), (told, start))
+                sure = [cut for cut in found if not self.is_passed(found, steps, cut)]
+                self.assertEqual(sure_cuts(*told, start), sorted(sure), (told, start))
+                self.check_rows(slow, told, start, found, sure)
+
+    def is_passed(self, found, steps, cut):
+        """Whether a step from one of the places found leads over this one."""
+        return any(max(steps[place]) > cut for place in found if place < cut)
+
+    def check_rows(self, slow, told, start, found, sure):
+        for place in range(slow.length + 1):
+            through, around = row_through(*told, start, place), row_around(*told, start, place)
+            self.assertIs(through is not None, place in found, (told, start, place))
+            self.assertIs(around is not None, place not in sure, (told, start, place))
+            for row, is_in in [(through, True), (around, False)]:
+                if row is not None:
+                    self.assertIs(place in walk(row, slow.settings, start), is_in, (told, start, place))
+                    self.assertTrue(all(next_cut(row, slow.settings, begin) == end for begin, end in told[2]))
+
+    def test_steps_by_one_piece_more(self):
+        for random, slow in mixed_rows(77, 150, 60):
+            pieces = [(place, slow.next[place]) for place in random.choices(range(slow.length), k=random.randint(0, 15))]
+            told = (slow.length, slow.settings, pieces)
+            for place in random.choices(range(slow.length), k=4):
+                found = []
+                for cut in range(place + 1, min(place + slow.settings[2], slow.length) + 1):
+                    if cut == slow.length or cut >= place + slow.settings[0]:
+                        if self.fits(*told[:2], pieces + [(place, cut)]):
+                            found.append(cut)
+                self.assertEqual(steps_from(*told, place), ranges_of(found), (told, place))
+
+    def fits(self, length, settings, pieces):
+        try:
+            sure_cuts(length, settings, pieces, length)
+        except Clash:
+            return False
+        return True
+
+
 class ExampleTest(unittest.TestCase):
     def test_kinds(self):
         told = (20, SETTINGS, [(0, 3)])
@@ -221,7 +274,7 @@ class GreatTest(unittest.TestCase):
         return [(place, rounds.next(place, rounds.marks)) for place in places[:100]]
 
     def test_great_rows(self):
-        for random, rounds in great_rows(73, 120):
+        for random, rounds in great_rows(73, 45):
             pieces = self.some_pieces(random, rounds)
             told = (rounds.length, rounds.settings, pieces)
             self.check_places(random, rounds, told)
